@@ -4,6 +4,7 @@ import (
 	"slices"
 
 	"sloth/api"
+	"sloth/nest"
 )
 
 // crowded tells the place of the first bracket that opens when as many are open as may be.
@@ -54,7 +55,7 @@ func typeAbove(t api.Type) api.Errno {
 }
 
 func clauseAbove(c api.Clause) api.Errno {
-	if deepClause(c, api.MaxNest) {
+	if nest.ClauseAbove(c, api.MaxNest) {
 		return api.ErrNest
 	}
 	return api.OK
@@ -67,32 +68,4 @@ func nodesLeft(t api.Type, left int) int {
 		left = nodesLeft(t.Args[i], left)
 	}
 	return left
-}
-
-// deepPat, deepClause, deepBranch and deepTerm tell whether something is deeper than so many levels. They stop at that depth.
-func deepPat(p api.Pat, levels int) bool {
-	return levels == 0 || deepPats(p.Args, levels-1)
-}
-
-func deepPats(l []api.Pat, levels int) bool {
-	return slices.ContainsFunc(l, func(p api.Pat) bool { return deepPat(p, levels) })
-}
-
-func deepClause(c api.Clause, levels int) bool {
-	return deepPats(c.Pats, levels) || deepTerm(c.Body, levels)
-}
-
-func deepBranch(b api.Branch, levels int) bool {
-	return deepPat(b.Pat, levels) || deepTerm(b.Body, levels)
-}
-
-func deepTerm(t api.Term, levels int) bool {
-	if levels == 0 {
-		return true
-	}
-	levels--
-	return slices.ContainsFunc(t.Args, func(a api.Term) bool { return deepTerm(a, levels) }) ||
-		deepPats(t.Pats, levels) ||
-		slices.ContainsFunc(t.Clauses, func(c api.Clause) bool { return deepClause(c, levels) }) ||
-		slices.ContainsFunc(t.Alts, func(b api.Branch) bool { return deepBranch(b, levels) })
 }
