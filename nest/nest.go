@@ -1,4 +1,4 @@
-// Package nest: how deep a source's trees are (DOC.md, W7).
+// Package nest: how deep the trees of sources and of programs are (DOC.md, W7).
 package nest
 
 import (
@@ -37,4 +37,28 @@ func patsAbove(l []api.Pat, levels int) bool {
 
 func branchAbove(b api.Branch, levels int) bool {
 	return PatAbove(b.Pat, levels) || TermAbove(b.Body, levels)
+}
+
+// ExprAbove looks at an expression of a program.
+func ExprAbove(e *api.Expr, levels int) bool {
+	if levels <= 0 {
+		return true
+	}
+	levels--
+	for i := range e.Args {
+		if ExprAbove(&e.Args[i], levels) {
+			return true
+		}
+	}
+	for i := range e.Binds {
+		if ExprAbove(&e.Binds[i].Value, levels) {
+			return true
+		}
+	}
+	for i := range e.Alts {
+		if ExprAbove(&e.Alts[i].Body, levels) {
+			return true
+		}
+	}
+	return false
 }

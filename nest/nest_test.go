@@ -72,3 +72,30 @@ func TestTerms(t *testing.T) {
 		check(t, x.what, x.depth, func(levels int) bool { return nest.TermAbove(x.term, levels) })
 	}
 }
+
+func expr(depth int) api.Expr {
+	if depth == 1 {
+		return api.Expr{Kind: api.ExprInt}
+	}
+	return api.Expr{Kind: api.ExprSeq, Args: []api.Expr{expr(1), expr(depth - 1)}}
+}
+
+func TestExprs(t *testing.T) {
+	for _, x := range []struct {
+		what  string
+		expr  api.Expr
+		depth int
+	}{
+		{"a leaf", expr(1), 1},
+		{"a seq", expr(4), 4},
+		{"types are not counted", api.Expr{Kind: api.ExprCon, Types: []api.Type{{Args: []api.Type{{}}}}}, 1},
+		{"a lambda", api.Expr{Kind: api.ExprLam, Binds: []api.Bind{{Name: "x"}}, Args: []api.Expr{expr(1)}}, 2},
+		{"a let with a deep value", api.Expr{Kind: api.ExprLet, Binds: []api.Bind{{Value: expr(1)}, {Value: expr(5)}}, Args: []api.Expr{expr(2)}}, 6},
+		{"a let with a deep body", api.Expr{Kind: api.ExprLet, Binds: []api.Bind{{Value: expr(1)}}, Args: []api.Expr{expr(2)}}, 3},
+		{"a case with a deep alternative", api.Expr{Kind: api.ExprCase, Args: []api.Expr{expr(2)}, Alts: []api.Alt{{Body: expr(1)}, {Body: expr(3)}, {Body: expr(1)}}}, 4},
+		{"a case of something deep", api.Expr{Kind: api.ExprCase, Args: []api.Expr{expr(5)}, Alts: []api.Alt{{Body: expr(3)}}}, 6},
+		{"what has no meaning", api.Expr{Kind: api.ExprInt, Alts: []api.Alt{{Body: expr(3)}}}, 4},
+	} {
+		check(t, x.what, x.depth, func(levels int) bool { return nest.ExprAbove(&x.expr, levels) })
+	}
+}
