@@ -1,17 +1,17 @@
-package infer
+package typing
 
 import (
 	"container/heap"
 	"sort"
 )
 
-// groupsOf deals definitions to groups, and tells these in the order in which they are worked out.
-func groupsOf(defs []definition) [][]definition {
+// Groups deals definitions to groups, and tells these in the order in which they are worked out.
+func Groups(defs []Definition) [][]Definition {
 	needs := needsOf(defs)
 	rings := ringsOf(needs)
-	var groups [][]definition
+	var groups [][]Definition
 	for _, ring := range inOrder(rings, needs) {
-		group := make([]definition, len(ring))
+		group := make([]Definition, len(ring))
 		for i, d := range ring {
 			group[i] = defs[d]
 		}

@@ -1,14 +1,14 @@
-package infer
+package typing
 
 import (
 	"sloth/api"
 	"sloth/types"
 )
 
-// known is what is known of names that may be used at many types, an instance of their type each time.
-type known struct {
-	values map[string]api.Type
-	cons   map[string]api.Type
+// Known is what is known of names that may be used at many types, an instance of their type each time.
+type Known struct {
+	Values map[string]api.Type
+	Cons   map[string]api.Type
 }
 
 // given is the type of something that is built in, as package types writes it.
@@ -36,19 +36,20 @@ var givenValues = [...]given{
 	{"stop", "a"},
 }
 
-func builtIn() known {
-	k := known{values: map[string]api.Type{}, cons: map[string]api.Type{}}
+// BuiltIn knows what is built in.
+func BuiltIn() Known {
+	k := Known{Values: map[string]api.Type{}, Cons: map[string]api.Type{}}
 	for _, g := range givenValues {
-		k.values[g.name], _ = types.Read(g.text)
+		k.Values[g.name], _ = types.Read(g.text)
 	}
 	for _, g := range givenCons {
-		k.cons[g.name], _ = types.Read(g.text)
+		k.Cons[g.name], _ = types.Read(g.text)
 	}
 	return k
 }
 
-// learnCons works the types of a module's constructors out.
-func (k known) learnCons(m api.Module) *api.Fault {
+// Learn works the types of a module's constructors out, or tells which one's is too great.
+func (k Known) Learn(m api.Module) *api.Fault {
 	for _, d := range m.Datas {
 		made := dataType(d)
 		for _, c := range d.Cons {
@@ -56,7 +57,7 @@ func (k known) learnCons(m api.Module) *api.Fault {
 			if code != api.OK {
 				return &api.Fault{Code: api.ErrBig, Text: m.Text, At: -1, Name: c.Name}
 			}
-			k.cons[c.Name] = t
+			k.Cons[c.Name] = t
 		}
 	}
 	return nil
