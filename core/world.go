@@ -4,6 +4,7 @@ import (
 	"slices"
 
 	"sloth/api"
+	"sloth/builtin"
 	"sloth/types"
 )
 
@@ -35,26 +36,13 @@ type con struct {
 	fields []*shape
 }
 
-// builtIn tells the data types that are always there.
-func builtIn() []api.Data {
-	a, b, c := api.Type{Kind: api.TyVar, Name: "a"}, api.Type{Kind: api.TyVar, Name: "b"}, api.Type{Kind: api.TyVar, Name: "c"}
-	list := api.Type{Kind: api.TyData, Name: "List", Args: []api.Type{a}}
-	return []api.Data{
-		{Name: "Bool", Cons: []api.Con{{Name: "False"}, {Name: "True"}}},
-		{Name: "Unit", Cons: []api.Con{{Name: "Unit"}}},
-		{Name: "List", Params: []string{"a"}, Cons: []api.Con{{Name: "Nil"}, {Name: "Cons", Fields: []api.Type{a, list}}}},
-		{Name: "Pair", Params: []string{"a", "b"}, Cons: []api.Con{{Name: "Pair", Fields: []api.Type{a, b}}}},
-		{Name: "Triple", Params: []string{"a", "b", "c"}, Cons: []api.Con{{Name: "Triple", Fields: []api.Type{a, b, c}}}},
-	}
-}
-
 // learn learns a program, or tells what is wrong with it.
 func learn(p api.Program) (*world, api.Errno) {
 	if code := wrongProgram(p); code != api.OK {
 		return nil, code
 	}
 	w := &world{numbers: map[string]int{}, cons: map[string]con{}, defs: map[string]general{}, integer: newShape(api.TyInt, 0)}
-	if code := w.learnDatas(append(builtIn(), p.Datas...)); code != api.OK {
+	if code := w.learnDatas(append(builtin.Datas(), p.Datas...)); code != api.OK {
 		return nil, code
 	}
 	w.truth = newShape(api.TyData, w.numbers["Bool"])

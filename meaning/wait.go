@@ -1,6 +1,9 @@
 package meaning
 
-import "sloth/api"
+import (
+	"sloth/api"
+	"sloth/arith"
+)
 
 // wait is what waits for a value. Of a typed program it is one that it can take; another would be stuck.
 type wait interface{ take(m *machine, v value) }
@@ -71,11 +74,11 @@ func (w operate) take(m *machine, v value) {
 		m.stick(api.StuckForm)
 		return
 	}
-	if holds, ok := compare(w.op, int(a), int(b)); ok {
+	if holds, ok := arith.Compare(w.op, int(a), int(b)); ok {
 		m.answer(m.truth(holds))
 		return
 	}
-	n, ok := sum(w.op, int(a), int(b))
+	n, ok := arith.Sum(w.op, int(a), int(b))
 	if !ok {
 		m.stick(api.StuckZero)
 		return

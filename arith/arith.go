@@ -1,14 +1,11 @@
-package meaning
-
-import "sloth/api"
-
-func isNoNumber(n int) bool { return n < api.MinInt || n > api.MaxInt }
+// Package arith: what operators make of numbers (DOC.md, 'What is built in').
+package arith
 
 // wrap keeps the lowest 63 bits, the highest of which is the sign.
 func wrap(n int) int { return n << 1 >> 1 }
 
-// sum tells what + - * / % make of two numbers; false: they divide by 0.
-func sum(op string, a, b int) (int, bool) {
+// Sum tells what + - * / % make of two numbers; false: they divide by 0.
+func Sum(op string, a, b int) (int, bool) {
 	switch op {
 	case "+":
 		return wrap(a + b), true
@@ -26,8 +23,8 @@ func sum(op string, a, b int) (int, bool) {
 	return a % b, true
 }
 
-// compare tells whether two numbers are as the operator says, and whether it is one that compares.
-func compare(op string, a, b int) (holds, ok bool) {
+// Compare tells whether two numbers are as the operator says, and whether it is one that compares.
+func Compare(op string, a, b int) (holds, ok bool) {
 	switch op {
 	case "==":
 		return a == b, true
