@@ -1,13 +1,16 @@
 package simplify
 
-import "sloth/api"
+import (
+	"sloth/api"
+	"sloth/swap"
+)
 
 // builder makes nodes of a definition's Body.
 type builder struct {
-	swap                     // what is put in the places of type parameters
-	names  *namer            // who calls the locals anew; nil: they keep their names
-	made   int               // how many nodes
-	locals map[string]*local // no name is bound twice, and none is spoken of where it is not bound: so none is ever taken out
+	swap.Swap                   // what is put in the places of type parameters
+	names     *namer            // who calls the locals anew; nil: they keep their names
+	made      int               // how many nodes
+	locals    map[string]*local // no name is bound twice, and none is spoken of where it is not bound: so none is ever taken out
 }
 
 // nodesOf makes nodes of a Body as it stands.
@@ -17,19 +20,19 @@ func nodesOf(body *api.Expr) *node {
 }
 
 // copyOf makes nodes of a Body, with types in the places of its parameters, and new locals.
-func copyOf(body *api.Expr, s swap, names *namer) *node {
-	b := builder{swap: s, names: names, locals: map[string]*local{}}
+func copyOf(body *api.Expr, s swap.Swap, names *namer) *node {
+	b := builder{Swap: s, names: names, locals: map[string]*local{}}
 	return b.node(body)
 }
 
 func (b *builder) node(e *api.Expr) *node {
-	n := &node{kind: e.Kind, name: e.Name, num: e.Num, types: b.list(e.Types), number: b.made}
+	n := &node{kind: e.Kind, name: e.Name, num: e.Num, types: b.List(e.Types), number: b.made}
 	b.made++
 	if e.Kind == api.ExprVar {
 		b.locals[e.Name].speak(n)
 	}
 	for i := range e.Binds {
-		n.locals = append(n.locals, b.local(e.Binds[i].Name, b.put(e.Binds[i].Type)))
+		n.locals = append(n.locals, b.local(e.Binds[i].Name, b.Put(e.Binds[i].Type)))
 	}
 	for i := range e.Alts {
 		n.alts = append(n.alts, b.alt(&e.Alts[i]))

@@ -1,6 +1,9 @@
 package simplify
 
-import "sloth/api"
+import (
+	"sloth/api"
+	"sloth/swap"
+)
 
 // bindArgument makes an ExprLet of a lambda that is applied.
 func (r *round) bindArgument(n *node) *node {
@@ -37,7 +40,7 @@ func (r *round) putCopy(n *node) *node {
 	head, _ := n.spine()
 	r.copied += r.measured(head.name).whole.with(sizesOf(head.types))
 	if !r.isFull() {
-		made := copyOf(r.bodies[head.name].expr, swap{r.defs[head.name].params, head.types}, r.names)
+		made := copyOf(r.bodies[head.name].expr, swap.Swap{Places: r.defs[head.name].params, Types: head.types}, r.names)
 		head.above.hold(0, made)
 	}
 	return n

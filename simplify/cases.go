@@ -5,6 +5,7 @@ import (
 
 	"sloth/api"
 	"sloth/arith"
+	"sloth/swap"
 )
 
 // isOfCon tells whether an ExprCase looks at a constructor. It has all its fields then, since nobody looks at a function.
@@ -32,7 +33,7 @@ func (r *round) choose(n *node) *node {
 	}
 	c := r.cons[head.name]
 	for i, l := range vars {
-		l.typ = swap{c.params, head.types}.put(c.fields[i])
+		l.typ = swap.Swap{Places: c.params, Types: head.types}.Put(c.fields[i])
 	}
 	return newLet(vars, append(n.parts[0].spineArgs(args), body))
 }

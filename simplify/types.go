@@ -1,39 +1,18 @@
 package simplify
 
-import "sloth/api"
+import (
+	"sloth/api"
+	"sloth/swap"
+)
 
 func function(from, to api.Type) api.Type {
 	return api.Type{Kind: api.TyFun, Args: []api.Type{from, to}}
 }
 
-// swap says which types are put for type parameters: the type at the place of each among them. With no types all stays as it is.
-type swap struct {
-	params map[string]int
-	types  []api.Type
-}
-
-// put makes a type with others in its parameters' places. What it makes shares parts with them.
-func (s swap) put(t api.Type) api.Type {
-	if t.Kind == api.TyVar && len(s.types) > 0 {
-		return s.types[s.params[t.Name]]
-	}
-	t.Args = s.list(t.Args)
-	return t
-}
-
-func (s swap) list(l []api.Type) []api.Type {
-	if len(l) == 0 || len(s.types) == 0 {
-		return l
-	}
-	made := make([]api.Type, len(l))
-	for i := range l {
-		made[i] = s.put(l[i])
-	}
-	return made
-}
-
 // at is a general type where types stand for its parameters.
-func (g general) at(types []api.Type) api.Type { return swap{g.params, types}.put(g.is) }
+func (g general) at(types []api.Type) api.Type {
+	return swap.Swap{Places: g.params, Types: types}.Put(g.is)
+}
 
 // typeOf tells a node's type. No rule changes the type of what it is done to, so it may be asked for at any time.
 func (w *world) typeOf(n *node) api.Type {
@@ -73,7 +52,7 @@ func (w *world) localType(l *local) api.Type {
 	if l.typ.Kind == 0 {
 		c := w.cons[l.con]
 		seen := w.typeOf(l.by.parts[0])
-		l.typ = swap{c.params, seen.Args}.put(c.fields[l.field])
+		l.typ = swap.Swap{Places: c.params, Types: seen.Args}.Put(c.fields[l.field])
 	}
 	return l.typ
 }

@@ -5,6 +5,7 @@ import (
 
 	"sloth/api"
 	"sloth/builtin"
+	"sloth/swap"
 )
 
 // world is what stays from round to round.
@@ -33,7 +34,7 @@ func learn(p api.Program) *world {
 	}
 	for i := range p.Defs {
 		d := &p.Defs[i]
-		w.defs[d.Name] = general{placesOf(d.Params), d.Type}
+		w.defs[d.Name] = general{swap.Places(d.Params), d.Type}
 		w.names.take(d.Name)
 		for e := range within(&d.Body) {
 			w.names.takeLocals(e)
@@ -43,7 +44,7 @@ func learn(p api.Program) *world {
 }
 
 func (w *world) learnData(d api.Data) {
-	params := placesOf(d.Params)
+	params := swap.Places(d.Params)
 	made := api.Type{Kind: api.TyData, Name: d.Name}
 	for _, name := range d.Params {
 		made.Args = append(made.Args, api.Type{Kind: api.TyVar, Name: name})
@@ -56,14 +57,6 @@ func (w *world) learnData(d api.Data) {
 		w.cons[c.Name] = con{general{params, is}, c.Fields}
 		w.names.take(c.Name)
 	}
-}
-
-func placesOf(names []string) map[string]int {
-	places := make(map[string]int, len(names))
-	for i, name := range names {
-		places[name] = i
-	}
-	return places
 }
 
 // namer calls locals anew, as nothing else in the program is called.
