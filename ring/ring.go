@@ -1,6 +1,8 @@
 // Package ring: rings of things that need one another, whatever the things are.
 package ring
 
+import "slices"
+
 // search finds rings as Tarjan does: each thing is come to once, and stays open till all that it needs was looked at; of a ring the first one that was come to closes all.
 type search struct {
 	needs  [][]int
@@ -14,6 +16,13 @@ type search struct {
 
 // Of tells the rings of things, each of which needs some others (by their numbers): each one's things in their order, the rings by their first ones. A thing that no other one leads back to is a ring of its own.
 func Of(needs [][]int) [][]int {
+	rings := Behind(needs)
+	slices.SortFunc(rings, func(a, b []int) int { return a[0] - b[0] })
+	return rings
+}
+
+// Behind tells the same rings, each behind all those whose things its own need.
+func Behind(needs [][]int) [][]int {
 	n := len(needs)
 	s := search{needs: needs, came: make([]int, n), back: make([]int, n), ring: make([]int, n)}
 	for d := range needs {
@@ -21,14 +30,9 @@ func Of(needs [][]int) [][]int {
 			s.visit(d)
 		}
 	}
-	places := make([]int, s.rings)
-	var rings [][]int
+	rings := make([][]int, s.rings) // their numbers tell the order in which they were closed
 	for d, r := range s.ring {
-		if places[r] == 0 {
-			rings = append(rings, nil)
-			places[r] = len(rings)
-		}
-		rings[places[r]-1] = append(rings[places[r]-1], d)
+		rings[r] = append(rings[r], d)
 	}
 	return rings
 }

@@ -2,7 +2,7 @@ package ring_test
 
 import (
 	"math/rand"
-	"reflect"
+	"slices"
 	"testing"
 
 	"sloth/ring"
@@ -20,9 +20,10 @@ func TestOf(t *testing.T) {
 		{[][]int{{1}, {0, 2}, {3}, {2}}, [][]int{{0, 1}, {2, 3}}},
 		{[][]int{{1}, {2}, {1, 0}, {4}, {3}}, [][]int{{0, 1, 2}, {3, 4}}},
 	} {
-		if got := ring.Of(x.needs); !reflect.DeepEqual(got, x.want) {
+		if got := ring.Of(x.needs); !slices.EqualFunc(got, x.want, slices.Equal) {
 			t.Errorf("Of(%v): %v, want %v", x.needs, got, x.want)
 		}
+		checkBehind(t, x.needs, x.want)
 	}
 }
 
@@ -61,9 +62,33 @@ func TestRandom(t *testing.T) {
 				want = append(want, members)
 			}
 		}
-		if got := ring.Of(needs); !reflect.DeepEqual(got, want) {
+		if got := ring.Of(needs); !slices.EqualFunc(got, want, slices.Equal) {
 			t.Fatalf("Of(%v): %v, want %v", needs, got, want)
 		}
+		checkBehind(t, needs, want)
+	}
+}
+
+// checkBehind: Behind tells just these rings, each behind all that it needs.
+func checkBehind(t *testing.T, needs, want [][]int) {
+	t.Helper()
+	got := ring.Behind(needs)
+	place := make([]int, len(needs))
+	for at, members := range got {
+		for _, d := range members {
+			place[d] = at
+		}
+	}
+	for d, l := range needs {
+		for _, n := range l {
+			if place[n] > place[d] {
+				t.Fatalf("Behind(%v): %v: %d stands ahead of %d", needs, got, d, n)
+			}
+		}
+	}
+	slices.SortFunc(got, func(a, b []int) int { return a[0] - b[0] })
+	if !slices.EqualFunc(got, want, slices.Equal) {
+		t.Fatalf("Behind(%v): %v, want those of %v", needs, got, want)
 	}
 }
 
@@ -75,6 +100,9 @@ func TestLong(t *testing.T) {
 		needs[i] = []int{i + 1}
 	}
 	if got := ring.Of(needs); len(got) != n {
+		t.Error(len(got))
+	}
+	if got := ring.Behind(needs); len(got) != n || got[0][0] != n-1 || got[n-1][0] != 0 {
 		t.Error(len(got))
 	}
 	needs[n-1] = []int{0}

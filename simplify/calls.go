@@ -40,7 +40,7 @@ func (r *round) putCopy(n *node) *node {
 	head, _ := n.spine()
 	r.copied += r.measured(head.name).whole.with(sizesOf(head.types))
 	if !r.isFull() {
-		made := copyOf(r.bodies[head.name].expr, swap.Swap{Places: r.defs[head.name].params, Types: head.types}, r.names)
+		made := copyOf(r.bodies[head.name].expr, swap.Swap{Places: r.defs[head.name].Params, Types: head.types}, r.names)
 		head.above.hold(0, made)
 	}
 	return n

@@ -5,7 +5,6 @@ import (
 
 	"sloth/api"
 	"sloth/arith"
-	"sloth/swap"
 )
 
 // isOfCon tells whether an ExprCase looks at a constructor. It has all its fields then, since nobody looks at a function.
@@ -31,9 +30,8 @@ func (r *round) choose(n *node) *node {
 		n.parts[0].drop()
 		return body
 	}
-	c := r.cons[head.name]
 	for i, l := range vars {
-		l.typ = swap.Swap{Places: c.params, Types: head.types}.Put(c.fields[i])
+		l.typ = r.cons[head.name].Field(i, head.types)
 	}
 	return newLet(vars, append(n.parts[0].spineArgs(args), body))
 }

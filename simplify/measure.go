@@ -1,6 +1,9 @@
 package simplify
 
-import "sloth/api"
+import (
+	"sloth/api"
+	"sloth/typed"
+)
 
 // measure is how many nodes something has, when types are put in the places of type parameters.
 type measure struct {
@@ -36,17 +39,9 @@ func (m measure) with(sizes []int) int {
 func sizesOf(l []api.Type) []int {
 	sizes := make([]int, len(l))
 	for i, t := range l {
-		sizes[i] = sizeOf(t)
+		sizes[i] = typed.Nodes(t)
 	}
 	return sizes
-}
-
-func sizeOf(t api.Type) int {
-	nodes := 1
-	for _, a := range t.Args {
-		nodes += sizeOf(a)
-	}
-	return nodes
 }
 
 // copying measures the copies of a Body: each as core.Size counts it, and all types in it in which parameters stand.
@@ -60,7 +55,7 @@ type copying struct {
 func (r *round) measured(name string) *copying {
 	b := r.bodies[name]
 	if b.copies == nil {
-		b.copies = &copying{params: r.defs[name].params}
+		b.copies = &copying{params: r.defs[name].Params}
 		b.copies.expr(r.world, nodesOf(b.expr))
 	}
 	return b.copies

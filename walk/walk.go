@@ -1,0 +1,47 @@
+// Package walk: expressions of a program gone through with all within them.
+package walk
+
+import (
+	"iter"
+
+	"sloth/api"
+)
+
+// All goes through an expression and all expressions in it, each ahead of its parts. (A lambda's Value is none.) What is still to be gone through stands in a list, so that depth costs no stack.
+func All(e *api.Expr) iter.Seq[*api.Expr] {
+	return func(yield func(*api.Expr) bool) {
+		left := []*api.Expr{e}
+		for len(left) > 0 {
+			last := len(left) - 1
+			e := left[last]
+			left = left[:last]
+			if !yield(e) {
+				return
+			}
+			left = appendParts(left, e)
+		}
+	}
+}
+
+func appendParts(l []*api.Expr, e *api.Expr) []*api.Expr {
+	for i := range e.Args {
+		l = append(l, &e.Args[i])
+	}
+	for i := range e.Binds {
+		if e.Kind != api.ExprLam {
+			l = append(l, &e.Binds[i].Value)
+		}
+	}
+	for i := range e.Alts {
+		l = append(l, &e.Alts[i].Body)
+	}
+	return l
+}
+
+// Body is what stands within the lambdas at the beginning of an expression.
+func Body(e *api.Expr) (body *api.Expr, lambdas int) {
+	for body = e; body.Kind == api.ExprLam; lambdas++ {
+		body = &body.Args[0]
+	}
+	return body, lambdas
+}
