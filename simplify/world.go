@@ -25,8 +25,8 @@ func learn(p api.Program) *world {
 		d := &p.Defs[i]
 		w.defs[d.Name] = typed.General{Params: swap.Places(d.Params), Is: d.Type}
 		w.names.take(d.Name)
-		for e := range walk.All(&d.Body) {
-			w.names.takeLocals(e)
+		for name := range walk.Names(&d.Body) {
+			w.names.take(name)
 		}
 	}
 	return w
@@ -39,17 +39,6 @@ type namer struct {
 }
 
 func (n *namer) take(name string) { n.taken[name] = struct{}{} }
-
-func (n *namer) takeLocals(e *api.Expr) {
-	for i := range e.Binds {
-		n.take(e.Binds[i].Name)
-	}
-	for i := range e.Alts {
-		for _, name := range e.Alts[i].Vars {
-			n.take(name)
-		}
-	}
-}
 
 func (n *namer) fresh() string {
 	for {

@@ -45,3 +45,23 @@ func Body(e *api.Expr) (body *api.Expr, lambdas int) {
 	}
 	return body, lambdas
 }
+
+// Names goes through the names of the locals that are bound in an expression and in all within it.
+func Names(e *api.Expr) iter.Seq[string] {
+	return func(yield func(string) bool) {
+		for e := range All(e) {
+			for i := range e.Binds {
+				if !yield(e.Binds[i].Name) {
+					return
+				}
+			}
+			for i := range e.Alts {
+				for _, name := range e.Alts[i].Vars {
+					if !yield(name) {
+						return
+					}
+				}
+			}
+		}
+	}
+}

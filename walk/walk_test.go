@@ -68,3 +68,26 @@ func TestBody(t *testing.T) {
 		}
 	}
 }
+
+// TestNames: all that binds a local, each once, and nothing else.
+func TestNames(t *testing.T) {
+	e := body(t, `(lam "a" Int (op + (let (("b" Int 1) ("c" Int (app (lam "d" Int "d") 2))) (hard "e" Int 3 "a")) (case 5 (int 6 (seq 7 "b")) (con "Cons" ("f" "g") (app (global "x") (con "y"))) (con "Nil" () (case 8 (con "Pair" ("h" "i") "f"))) (else "z"))))`)
+	met := map[string]int{}
+	for name := range walk.Names(e) {
+		met[name]++
+	}
+	if got := fmt.Sprint(met); got != "map[a:1 b:1 c:1 d:1 e:1 f:1 g:1 h:1 i:1]" {
+		t.Error(got)
+	}
+	for n := range 10 { // who has seen enough may leave
+		seen := 0
+		for range walk.Names(e) {
+			if seen++; seen == n {
+				break
+			}
+		}
+		if n > 0 && seen != n {
+			t.Error(seen, n)
+		}
+	}
+}
