@@ -19,12 +19,15 @@ func isBig(t api.Table) bool {
 }
 
 func isName(name string) bool {
+	if len(name) < 1 || len(name) > api.MaxName {
+		return false
+	}
 	for i := range len(name) {
 		if name[i] < 32 || name[i] > 126 {
 			return false
 		}
 	}
-	return 1 <= len(name) && len(name) <= api.MaxName
+	return true
 }
 
 // names are those that stood ahead.
@@ -32,7 +35,10 @@ type names map[string]struct{}
 
 // add tells whether a name may be, and is none of those ahead.
 func (l names) add(name string) bool {
-	if _, twice := l[name]; twice || !isName(name) {
+	if !isName(name) {
+		return false
+	}
+	if _, twice := l[name]; twice {
 		return false
 	}
 	l[name] = struct{}{}

@@ -117,21 +117,21 @@ func (r *textReader) number() int {
 	return n
 }
 
-func (r *textReader) skipBlanks() { r.rest = strings.TrimLeft(r.rest, " \t\n\r") }
+const blanks = " \t\n\r"
 
-// word reads a word; it is empty, if none is next.
+func (r *textReader) skipBlanks() { r.rest = strings.TrimLeft(r.rest, blanks) }
+
+// word reads all that stands ahead of a blank or a name in quotes; it is empty, if none is next. A byte that may not stand in a word makes one that means nothing.
 func (r *textReader) word() string {
 	r.skipBlanks()
-	end := 0
-	for end < len(r.rest) && isWordSign(r.rest[end]) {
-		end++
+	end := strings.IndexAny(r.rest, blanks+`"`)
+	if end < 0 {
+		end = len(r.rest)
 	}
 	word := r.rest[:end]
 	r.rest = r.rest[end:]
 	return word
 }
-
-func isWordSign(b byte) bool { return 33 <= b && b <= 126 && b != '"' }
 
 // name reads a name in quotes.
 func (r *textReader) name() string {

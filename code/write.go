@@ -6,7 +6,7 @@ import (
 	"sloth/api"
 )
 
-// textWriter writes a right table line by line. Once there are more bytes than may be, it writes no more.
+// textWriter writes a right table line by line. Once there are more bytes than may be, it writes no more instructions: these alone could make very many, since each of them may tell a long name.
 type textWriter struct {
 	shapes  []api.Shape
 	globals []api.Global
@@ -29,9 +29,6 @@ func (w *textWriter) table() {
 
 // told writes the line that tells a constructor or a global.
 func (w *textWriter) told(word, name string, n int) {
-	if w.isFull() {
-		return
-	}
 	w.put(word)
 	w.name(name)
 	w.number(n)
