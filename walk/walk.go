@@ -3,6 +3,7 @@ package walk
 
 import (
 	"iter"
+	"slices"
 
 	"sloth/api"
 )
@@ -44,6 +45,15 @@ func Body(e *api.Expr) (body *api.Expr, lambdas int) {
 		body = &body.Args[0]
 	}
 	return body, lambdas
+}
+
+// Spine is an expression as a head, which is no ExprApp, and its arguments.
+func Spine(e *api.Expr) (head *api.Expr, args []*api.Expr) {
+	for head = e; head.Kind == api.ExprApp; head = &head.Args[0] {
+		args = append(args, &head.Args[1])
+	}
+	slices.Reverse(args)
+	return head, args
 }
 
 // Names goes through the names of the locals that are bound in an expression and in all within it.

@@ -69,6 +69,26 @@ func TestBody(t *testing.T) {
 	}
 }
 
+// TestSpine: what is applied, and all its arguments, in their order.
+func TestSpine(t *testing.T) {
+	for text, want := range map[string]int{`1`: 0, `(app (global "g") 1)`: 1, `(app (app (app (con "c") 1) (app 2 3)) 3)`: 3, `(app (app (seq 1 (app 2 3)) 1) 2)`: 2} {
+		e := body(t, text)
+		head, args := walk.Spine(e)
+		if len(args) != want || head.Kind == api.ExprApp {
+			t.Error(text, len(args), head.Kind)
+		}
+		for i, a := range args {
+			f := e
+			for range want - 1 - i {
+				f = &f.Args[0]
+			}
+			if a != &f.Args[1] || i == 0 && head != &f.Args[0] {
+				t.Error(text, i)
+			}
+		}
+	}
+}
+
 // TestNames: all that binds a local, each once, and nothing else.
 func TestNames(t *testing.T) {
 	e := body(t, `(lam "a" Int (op + (let (("b" Int 1) ("c" Int (app (lam "d" Int "d") 2))) (hard "e" Int 3 "a")) (case 5 (int 6 (seq 7 "b")) (con "Cons" ("f" "g") (app (global "x") (con "y"))) (con "Nil" () (case 8 (con "Pair" ("h" "i") "f"))) (else "z"))))`)

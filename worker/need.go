@@ -1,9 +1,8 @@
 package worker
 
 import (
-	"slices"
-
 	"sloth/api"
+	"sloth/walk"
 )
 
 // world is what is known of the definitions, by their names: their parameters.
@@ -33,15 +32,6 @@ func paramsOf(body *api.Expr, numbers []int) []param {
 	return l
 }
 
-// spine is an expression as a head, which is no ExprApp, and its arguments.
-func spine(e *api.Expr) (head *api.Expr, args []*api.Expr) {
-	for head = e; head.Kind == api.ExprApp; head = &head.Args[0] {
-		args = append(args, &head.Args[1])
-	}
-	slices.Reverse(args)
-	return head, args
-}
-
 // given tells the parameters for which a spine has arguments: none, if its head is no definition, or lacks some.
 func (w world) given(head *api.Expr, args int) []param {
 	if head.Kind == api.ExprGlobal && len(w[head.Name]) <= args {
@@ -67,7 +57,7 @@ search:
 
 // waits tells whether there is something in an expression to be worked out.
 func (w world) waits(e *api.Expr) bool {
-	switch head, args := spine(e); head.Kind {
+	switch head, args := walk.Spine(e); head.Kind {
 	case api.ExprVar:
 		return len(args) > 0
 	case api.ExprGlobal:

@@ -92,7 +92,7 @@ func withParts(e *api.Expr, value, part func(*api.Expr) api.Expr) api.Expr {
 
 // call turns a spine to be worked out. What it needs is put around it when it is whole, the first outermost: each closure puts its own within those ahead.
 func (t turner) call(e *api.Expr) api.Expr {
-	head, args := spine(e)
+	head, args := walk.Spine(e)
 	params := t.given(head, len(args))
 	call := t.worked(head)
 	around := func(inner api.Expr) api.Expr { return inner }
